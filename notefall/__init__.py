@@ -1,0 +1,1 @@
+"""Notefall: notes that sink through rooms."""
