@@ -1,5 +1,7 @@
 """Whole numbers, and what is told by them alone: keys, stretches and rules."""
 
+from notefall.errors import NoKey, NoStretch
+
 END = 10 ** 12
 
 MOST_TRAY = 64
@@ -20,6 +22,11 @@ def is_whole(thing, low, high):
     return is_number(thing) and low <= thing <= high
 
 
+def is_whole_from(thing, low):
+    """Whether it is a whole number from low on, however great."""
+    return is_number(thing) and low <= thing
+
+
 def is_key(thing):
     """Whether it is a key."""
     return is_whole(thing, 0, END - 1)
@@ -28,6 +35,18 @@ def is_key(thing):
 def is_stretch(low, high):
     """Whether the two tell a stretch."""
     return is_whole(low, 0, END) and is_whole(high, 0, END) and low < high
+
+
+def check_key(thing):
+    """Refuses what is no key."""
+    if not is_key(thing):
+        raise NoKey("no key")
+
+
+def check_stretch(low, high):
+    """Refuses what tells no stretch."""
+    if not is_stretch(low, high):
+        raise NoStretch("no stretch")
 
 
 def is_plan(thing):

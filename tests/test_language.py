@@ -20,6 +20,13 @@ WORDS = re.compile(
     r"\b(type|typing|typing_extensions|enum|Enum|IntEnum|StrEnum|Flag|IntFlag|Generic|Protocol|ABC|ABCMeta|namedtuple"
     r"|NamedTuple|TypedDict|TYPE_CHECKING|abstractmethod)\b|dataclass|overload|contextmanager"
 )
+OWN_METHODS = set(
+    "append clear copy count endswith extend find get index insert isalnum isalpha isdigit islower isspace isupper items "
+    "join keys ljust lower lstrip partition pop remove replace reverse rfind rjust rpartition rsplit rstrip setdefault "
+    "split splitlines startswith strip update upper values zfill bit_length title capitalize swapcase casefold center "
+    "removeprefix removesuffix rindex isascii isdecimal isnumeric istitle isidentifier isprintable".split()
+)
+UNUSED = set("register mro elements open input version_info with_traceback add_note format format_map".split())
 OUT = (
     ast.With, ast.Match, ast.Global, ast.Nonlocal, ast.Yield, ast.YieldFrom, ast.Await, ast.AsyncFunctionDef,
     ast.AsyncFor, ast.AsyncWith, ast.GeneratorExp, ast.NamedExpr, ast.Div, ast.MatMult, ast.Import, ast.TryStar,
@@ -72,6 +79,75 @@ def wrong_name(node):
     if name.startswith("_"):
         return name not in TWO_UNDERSCORES
     return isinstance(node, (ast.Name, ast.arg)) and name not in OWN_NAMES and hasattr(builtins, name)
+
+
+def nodes(kinds):
+    """All parts of these kinds in the package."""
+    trees = [ast.parse(path.read_text(encoding="ascii")) for path in FILES]
+    return [node for tree in trees for node in ast.walk(tree) if isinstance(node, kinds)]
+
+
+def methods():
+    return {row.name for node in nodes(ast.ClassDef) for row in node.body if isinstance(row, ast.FunctionDef)}
+
+
+def values(context):
+    """The names of the objects' values that are given or asked."""
+    return {node.attr for node in nodes(ast.Attribute) if isinstance(node.ctx, context)}
+
+
+def twice(names):
+    return sorted({name for name in names if names.count(name) > 1})
+
+
+def top_names(tree):
+    """The names that a file binds at its top: those of imports and classes, and all."""
+    drawn = [name.asname or name.name for row in tree.body if isinstance(row, ast.ImportFrom) for name in row.names]
+    classes = [row.name for row in tree.body if isinstance(row, ast.ClassDef)]
+    defs = [row.name for row in tree.body if isinstance(row, ast.FunctionDef)]
+    given = [target.id for row in tree.body if isinstance(row, ast.Assign) for target in row.targets]
+    return drawn + classes, drawn + classes + defs + given
+
+
+def local_names(tree):
+    """The names of parameters and of what is given within defs."""
+    told = set()
+    for node in ast.walk(tree):
+        if isinstance(node, ast.FunctionDef):
+            for part in ast.walk(node):
+                if isinstance(part, ast.arg):
+                    told.add(part.arg)
+                if isinstance(part, ast.Name) and isinstance(part.ctx, ast.Store):
+                    told.add(part.id)
+    return told
+
+
+class WholePackage(unittest.TestCase):
+    def test_no_name_is_a_method_and_a_value(self):
+        self.assertEqual(sorted(methods() & values(ast.Store)), [])
+
+    def test_what_is_asked_of_a_thing_is_given_somewhere(self):
+        self.assertEqual(sorted(values(ast.Load) - values(ast.Store) - methods() - OWN_METHODS), [])
+
+    def test_no_method_stands_twice_in_a_class(self):
+        for node in nodes(ast.ClassDef):
+            with self.subTest(node.name):
+                self.assertEqual(twice([row.name for row in node.body if isinstance(row, ast.FunctionDef)]), [])
+
+    def test_names_of_a_file(self):
+        for path in FILES:
+            tree = ast.parse(path.read_text(encoding="ascii"))
+            shut, every = top_names(tree)
+            with self.subTest(path.name):
+                self.assertEqual(twice(every), [])
+                self.assertEqual(sorted(local_names(tree) & set(shut)), [])
+
+    def test_names_that_are_not_used(self):
+        names = methods() | values((ast.Store, ast.Load))
+        for path in FILES:
+            tree = ast.parse(path.read_text(encoding="ascii"))
+            names |= local_names(tree) | set(top_names(tree)[1])
+        self.assertEqual(sorted(names & UNUSED), [])
 
 
 class Language(unittest.TestCase):
