@@ -91,7 +91,7 @@ def read_stretch(house, low=0, high=END, *, at=None, most=None, back=False):
     check_mark(house, at)
     check_many(most)
     told = pairs(house, low, high, at)
-    if back:
+    if back is True:
         told = told[::-1]
     return told if most is None else told[:most]
 
