@@ -127,13 +127,19 @@ class Store:
 
     def twin(self):
         """Another store that stands alike."""
-        house = House(self.rule, list(self.house.kept), self.house.fresh, top_of(roll_of(self.house.top)))
-        house.trail = self.steps()
-        other = Store(self.rule)
-        other.last = self.last
-        other.house = house
+        other = store_from(self.image())
+        other.house.trail = self.steps()
         return other
 
     def image(self):
         """The whole store as a tuple."""
         return (self.rule, self.last, self.marks(), self.house.fresh, roll_of(self.house.top))
+
+
+def store_from(image):
+    """A store whose image is this one, which is known to be without fault."""
+    rule, last, marks, fresh, rooms = image
+    store = Store(rule)
+    store.last = last
+    store.house = House(rule, list(marks), fresh, top_of(rooms))
+    return store
