@@ -122,7 +122,30 @@ def local_names(tree):
     return told
 
 
+def drawn_from(tree):
+    """Tuples of the file and the name of all that a file draws in."""
+    rows = [row for row in tree.body if isinstance(row, ast.ImportFrom) and row.module != "__future__"]
+    return [(row.module.removeprefix("notefall."), name.name) for row in rows for name in row.names]
+
+
 class WholePackage(unittest.TestCase):
+    def test_names_are_drawn_from_the_file_that_defines_them(self):
+        trees = {path.stem: ast.parse(path.read_text(encoding="ascii")) for path in FILES}
+        for stem, tree in trees.items():
+            for source, name in drawn_from(tree):
+                drawn = [other for file, other in drawn_from(trees[source])]
+                with self.subTest(file=stem, name=name):
+                    self.assertIn(name, top_names(trees[source])[1])
+                    self.assertNotIn(name, drawn)
+
+    def test_no_two_files_draw_from_one_another(self):
+        sources = {path.stem: {file for file, name in drawn_from(ast.parse(path.read_text(encoding="ascii")))} for path in FILES}
+        settled = set()
+        while len(settled) < len(sources):
+            free = {stem for stem, needs in sources.items() if needs <= settled} - settled
+            self.assertTrue(free, sorted(set(sources) - settled))
+            settled |= free
+
     def test_no_name_is_a_method_and_a_value(self):
         self.assertEqual(sorted(methods() & values(ast.Store)), [])
 
