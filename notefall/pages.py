@@ -3,7 +3,7 @@
 from notefall.actions import GONE
 from notefall.errors import NoPage
 from notefall.figures import figures_of, read_figures
-from notefall.shapes import are_rising_from, is_inner_told, is_leaf_told, is_rising
+from notefall.shapes import are_rising_from, is_inner_told, is_leaf_told
 from notefall.wholes import is_rule, is_whole_from
 
 
@@ -144,7 +144,7 @@ def read_inner(pieces):
 def is_inner_writable(inner, places):
     """Whether the numbers of an inner room and of its children's places are such as are written."""
     word, number, pivots, children, tray = inner
-    if len(children) != len(pivots) + 1 or len(places) != len(children) or not is_rising(pivots):
+    if len(children) != len(pivots) + 1 or len(places) != len(children):
         return False
     return all([part >= 0 for part in [number] + children + [places[child] for child in children]])
 

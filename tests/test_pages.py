@@ -35,6 +35,10 @@ WRITTEN = [
     # Whether its things fit one another isn't looked at.
     (("inner", 0, [7], [0, 5], [put(9, 3, 1), put(2, 3, 1), put(2, 3, 1)]), {0: 1, 5: 1},
      "inner 0 7 0@1,5@1 9.3.4.=1.=1;2.3.4.=1.=1;2.3.4.=1.=1"),
+    (("inner", 0, [100, 7], [1, 3, 4], []), {1: 2, 3: 5, 4: 6}, "inner 0 100,7 1@2,3@5,4@6 -"),
+    (("inner", 3, [7, 7], [3, 1, 4], [put(2, 7, 1)]), {1: 2, 3: 5, 4: 6}, "inner 3 7,7 3@5,1@2,4@6 2.7.8.=1.=1"),
+    (("inner", 2, [SIXTY, 0, 0, -5, -SIXTY], [9, 8, 7, 0, 2, 1], []), {9: 4, 8: 4, 7: 0, 0: 12, 2: 1, 1: 3},
+     f"inner 2 {SIXTY},0,0,-5,-{SIXTY} 9@4,8@4,7@0,0@12,2@1,1@3 -"),
 ]
 
 HEADS = [
@@ -140,7 +144,7 @@ class Rooms(Case):
         self.refused(read_room, ["leaf 3 7=0:5 9=0:5", "leaf 3 7=0:5,9=0:5", "leaf 3 7=0.5", "leaf 3 x", "leaf 3 7=0:xx"])
 
     def test_pivots_and_children(self):
-        self.refused(read_room, ["inner 0 9,7 1@2,3@5,4@6 -", "inner 0 7,7 1@2,3@5,4@6 -", "inner 0 7 1@2,1@5 -", "inner 0 7 1@2,1@2 -"])
+        self.refused(read_room, ["inner 0 7 1@2,1@5 -", "inner 0 7 1@2,1@2 -", "inner 0 9,7 1@2,3@5 -", "inner 0 7,7 1@2,3@5,3@6 -"])
         self.refused(read_room, ["inner 0 7 1@2 -", "inner 0 - 1@2,3@5 -", "inner 0 7,9 1@2,3@5 -", "inner 0 - - -", "inner 0 7 - -"])
         self.refused(read_room, ["inner 0 7, 1@2,3@5 -", "inner 0 ,7 1@2,3@5 -", "inner 0 7,,9 1@2,3@5,4@6 -", "inner 0 7;9 1@2,3@5,4@6 -"])
         self.refused(read_room, ["inner 0 7 1@2;3@5 -", "inner 0 7 1@2,3@5, -", "inner 0 7 ,1@2,3@5 -", "inner 0 7 1@2,,3@5 -"])
